@@ -1,0 +1,1 @@
+"""Recipelayers: file trees that are built in layers."""
