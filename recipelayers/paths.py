@@ -30,6 +30,21 @@ def lies_beneath(path, top):
     return len(path) > len(top) and path[:len(top)] == top
 
 
+def begins_with(path, top):
+    """Whether a path is another one or lies beneath it."""
+    return path[:len(top)] == top
+
+
+def above(path):
+    """The paths above a path, but the root, the shortest one first."""
+    return [path[:many] for many in range(1, len(path))]
+
+
+def with_above(paths):
+    """These paths and those above them, each once, in ascending order, without the root."""
+    return sorted({path[:many + 1] for path in paths for many in range(len(path))})
+
+
 def by_parent(paths):
     """The paths of an ascending list, by their parents; the parents, too, are in the list, but for the root."""
     longer = {(): []}
