@@ -188,6 +188,31 @@ class TestForm(unittest.TestCase):
             if part.name.startswith("__"):
                 self.assertIn(part.name, SPECIAL)
 
+    def test_errors_are_raised_and_caught_by_name(self):
+        own = {"ValueError"}
+        for _ in range(3):
+            own |= {part.name for _, part in parts(ast.ClassDef) for base in part.bases if ast.unparse(base) in own}
+        for file, part in parts(ast.Raise):
+            self.assertIsInstance(part.exc, ast.Call, file)
+            self.assertIn(ast.unparse(part.exc.func), own - {"ValueError"}, file)
+        for file, part in parts(ast.ExceptHandler):
+            self.assertIn(ast.unparse(part.type), own - {"ValueError"}, file)
+
+    def test_generators(self):
+        functions = [part for _, part in parts(ast.FunctionDef)]
+        names = [function.name for function in functions
+                 if [part for part in ast.walk(function) if isinstance(part, (ast.Yield, ast.YieldFrom))]]
+        self.assertEqual(sorted(names), ["moments", "walk"])
+        for name in names:
+            self.assertEqual(len([function for function in functions if function.name == name]), 1)
+        for file, tree in trees():
+            iterated = [part.iter for part in ast.walk(tree) if isinstance(part, (ast.For, ast.comprehension))]
+            iterated += [part.args[0] for part in ast.walk(tree) if isinstance(part, ast.Call) and part.args
+                         and ast.unparse(part.func) == "list"]
+            for part in ast.walk(tree):
+                if isinstance(part, ast.Call) and called(part) in names:
+                    self.assertIn(part, iterated, file)
+
     def test_no_method_is_an_attribute(self):
         methods = {method.name for _, part in parts(ast.ClassDef) for method in part.body
                    if isinstance(method, ast.FunctionDef)}

@@ -13,6 +13,14 @@ FUNCTIONS = {
     "parting": ["apart(one, other)"],
     "least": ["layer(lower, upper)", "weight(lower, upper)", "table(lower, upper)", "is_table(lower, upper, thing)"],
     "exchange": ["may_swap(lower, upper)", "orders(layers)", "parted(layers, order)"],
+    "division": ["may_divide(lower, whole)", "behind(lower, whole)"],
+    "steps": ["is_step(thing)", "argued(step, arguments)", "reading(step, tree, source)", "written(step, reading)"],
+    "runs": ["moments(recipe, inputs, arguments)"],
+    "asking": ["value(recipe, path, answers)"],
+    "alike": ["fresh(one, other)", "relevant(one, other)", "compare_at(one, other, path, *, limit=400)",
+              "compare(one, other, *, limit=2000)", "is_alike(one, other, thing)"],
+    "stale": ["stale(recipe, inputs, arguments, places, *, limit=400)",
+              "shown(recipe, inputs, arguments, places, name, at, *, limit=400)"],
 }
 
 CLASSES = {
@@ -41,6 +49,15 @@ CLASSES = {
         "__init__(self, start, layers=())", "__eq__(self, other)", "__len__(self)", "__or__(self, other)",
         "start(self)", "tree(self)", "after(self, many)", "layers(self)", "givers(self, path)", "exposed(self, at)",
         "walk(self)", "without(self, at)", "squashed(self, begin, end)", "shown_without(self, path, at)"],
+    ("recipes", "Recipe"): [
+        "__init__(self, stages)", "__eq__(self, other)", "__len__(self)", "__repr__(self)", "stages(self)",
+        "start(self, name)", "steps(self, name)", "inputs(self)", "arguments(self)", "with_steps(self, name, steps)"],
+    ("runs", "Run"): [
+        "__init__(self, recipe, inputs, arguments)", "tree(self, name=None)", "before(self, at, name=None)",
+        "layers(self, name=None)", "readings(self, name=None)", "stack(self, name=None)"],
+    ("caches", "Cache"): [
+        "__init__(self)", "__len__(self)", "__contains__(self, thing)", "fill(self, run)",
+        "would(self, recipe, inputs, arguments)", "make(self, recipe, inputs, arguments)"],
 }
 
 
