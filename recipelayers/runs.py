@@ -20,6 +20,7 @@ class Run:
         if not are_arguments(arguments):
             raise Wrong(2)
         self._last = recipe.last()
+        self._inputs = {name: inputs[name] for name in inputs}
         self._made = {name: [] for name, _, _ in recipe.stages()}
         for name, at, step, told, layer in moments(recipe, inputs, arguments):
             self._made[name].append((at, step, told, layer))
@@ -52,6 +53,15 @@ class Run:
     def stack(self, name=None):
         """The Stack of the start of a stage and its layers."""
         return Stack(self.before(0, name), self.layers(name))
+
+    def steps(self, name=None):
+        """The list of the steps of a stage, without arguments."""
+        return [step for _, step, _, _ in self._made[self._stage(name)]]
+
+    def source(self, step):
+        """The Tree of the source of a step; the empty one if it is no copy."""
+        ends = {name: trees[-1] for name, trees in self._trees.items()}
+        return named_tree(source_of(step), ends, self._inputs)
 
     def pairs(self):
         """The tuples (name, at, step, reading) of all steps in order, the steps without arguments."""

@@ -44,6 +44,15 @@ class Study:
         leaf, node, now = partings[0]
         return (self._places.wholes(), rows_of(leaf), parting_rights(node, now))
 
+    def may_end_otherwise(self, limit):
+        """Whether some values at the places make another tree of the recipe."""
+        name = self._recipe.last()
+        many = len(self._recipe.steps(name))
+        paths = with_fresh(self._relevant[name], self._fresh)
+        looked = [(name, many, path) for path in paths if path != ()]
+        # All of a node matters at the end, as it does to a copy.
+        return len(self._partings(looked, "copy", limit)) > 0
+
     def _way_of_copy(self, step):
         """A way for a copy from an input, or None."""
         _, source, origin, path = step

@@ -21,6 +21,11 @@ FUNCTIONS = {
               "compare(one, other, *, limit=2000)", "is_alike(one, other, thing)"],
     "stale": ["stale(recipe, inputs, arguments, places, *, limit=400)",
               "shown(recipe, inputs, arguments, places, name, at, *, limit=400)"],
+    "secrets": ["telling(recipe, inputs, arguments, place, *, limit=400)"],
+    "reorderings": ["ordered(recipe, order)", "orders(recipe, *, limit=2000)", "apart(recipe, order, *, limit=2000)",
+                    "idle(recipe, *, limit=2000)"],
+    "rebases": ["rebase(run, start)"],
+    "merges": ["merged(base, one, other, *, limit=2000)"],
 }
 
 CLASSES = {

@@ -131,17 +131,26 @@ def looked_at(recipe, inputs, named, steps, name, at):
     if step[0] != "copy":
         return []
     _, source, q, p = step
+    paths = {q} | {path for path in model_relevant_for(recipe, source, inputs, named) if path[:len(q)] == q}
+    paths |= {(*path, model_fresh(recipe, inputs, named)) for path in paths}
+    return [(source, len(steps[source]), path) for path in sorted(paths) if path != () and (path != q or p != ())]
+
+
+def model_relevant_for(recipe, stage, inputs, named):
+    """The set of the relevant paths of a stage for places that are no arguments, in the words of [72]."""
     known = {}
     for told in recipe.inputs():
         rows = [*inputs.get(told, Tree()).paths(), *[place[2] for place in named if place[1] == told]]
         known[told] = {path[:many] for path in rows for many in range(len(path) + 1)}
-    paths = {q} | {path for path in model_relevant(recipe, source, known) if path[:len(q)] == q}
+    return model_relevant(recipe, stage, known)
+
+
+def model_fresh(recipe, inputs, named):
+    """The fresh name for places that are no arguments, in the words of [72]."""
     used = {part for tree in inputs.values() for path in tree.paths() for part in path}
     used |= {part for place in named for part in place[2]}
-    used |= {part for some in steps.values() for one in some for part in names_in(one)}
-    fresh = next(letter for letter in "abcdefghijklmnopqrstuvwxyz" if letter not in used)
-    paths |= {(*path, fresh) for path in paths}
-    return [(source, len(steps[source]), path) for path in sorted(paths) if path != () and (path != q or p != ())]
+    used |= {part for _, _, some in recipe.stages() for one in some for part in names_in(one)}
+    return next(letter for letter in "abcdefghijklmnopqrstuvwxyz" if letter not in used)
 
 
 def names_in(step):
