@@ -2,7 +2,8 @@
 
 from recipelayers.errors import TooMany
 from recipelayers.finding import Answers, Finder
-from recipelayers.papers import is_list_of_pairs, is_plain, is_told
+from recipelayers.kinds import is_plain
+from recipelayers.papers import is_list_of_pairs, is_told
 from recipelayers.paths import unused_name
 from recipelayers.relevance import relevant_paths, step_paths, with_fresh
 from recipelayers.stepparts import texts_told

@@ -17,6 +17,12 @@ class Cache:
     def __contains__(self, thing):
         return is_pair(thing) and key_of(thing[0], thing[1]) in self._kept
 
+    def branch(self):
+        """A Cache that keeps the same and goes on independently."""
+        cache = Cache()
+        cache._kept = dict(self._kept)
+        return cache
+
     def fill(self, run):
         """Keep all steps of a Run; how many of their pairs are new."""
         before = len(self._kept)

@@ -70,6 +70,25 @@ def is_tagged(thing, tag, many):
     return isinstance(thing, tuple) and len(thing) == many and isinstance(thing[0], str) and thing[0] == tag
 
 
+def is_plain(thing, plain):
+    """Whether thing, any value, is this value of lists, tuples, strings, integers and None."""
+    if isinstance(plain, list):
+        return isinstance(thing, list) and are_plain(thing, plain)
+    if isinstance(plain, tuple):
+        return isinstance(thing, tuple) and are_plain(thing, plain)
+    if plain is None:
+        return thing is None
+    # The kind is asked first, as True == 1, and as any value may have an == of its own.
+    return (isinstance(thing, str) if isinstance(plain, str) else is_integer(thing)) and thing == plain
+
+
+def are_plain(things, plains):
+    """Whether things are, one by one, these plain values."""
+    if len(things) != len(plains):
+        return False
+    return all([is_plain(thing, plain) for thing, plain in zip(things, plains)])
+
+
 def is_folder(node):
     """Whether a node, None for nothing, or a word or an entry begins with "folder"."""
     return node is not None and node[0] == "folder"

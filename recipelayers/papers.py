@@ -1,7 +1,7 @@
 """Papers that show for a path, leaf by leaf, what recipes have there; any value may be handed in as one."""
 
 from recipelayers.asking import value
-from recipelayers.kinds import is_integer, is_name, is_path
+from recipelayers.kinds import is_name, is_path, is_plain
 from recipelayers.walks import ANSWERS, as_answers
 
 
@@ -68,15 +68,3 @@ def by_answer(leaves, many):
         return None
     groups = [[leaf for leaf in leaves if leaf[many][2] == answer] for answer in ANSWERS]
     return None if [] in groups else groups
-
-
-def is_plain(thing, plain):
-    """Whether thing, any value, is this value of tuples, strings, integers and None."""
-    if isinstance(plain, tuple):
-        if not isinstance(thing, tuple) or len(thing) != len(plain):
-            return False
-        return all([is_plain(part, other) for part, other in zip(thing, plain)])
-    if plain is None:
-        return thing is None
-    # The kind is asked first, as True == 1, and as any value may have an == of its own.
-    return (isinstance(thing, str) if isinstance(plain, str) else is_integer(thing)) and thing == plain

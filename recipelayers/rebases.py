@@ -11,7 +11,7 @@ def rebase(run, start):
     tree = start
     other = start
     clashes = []
-    for at, (step, told, layer) in enumerate(zip(run.steps(), run.readings(), run.layers())):
+    for at, (step, told, layer) in enumerate(zip(run.plain_steps(), run.readings(), run.layers())):
         there = reading(step, other, run.source(step))
         if there != told:
             clashes.append((at, told, there))

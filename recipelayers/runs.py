@@ -54,7 +54,7 @@ class Run:
         """The Stack of the start of a stage and its layers."""
         return Stack(self.before(0, name), self.layers(name))
 
-    def steps(self, name=None):
+    def plain_steps(self, name=None):
         """The list of the steps of a stage, without arguments."""
         return [step for _, step, _, _ in self._made[self._stage(name)]]
 

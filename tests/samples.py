@@ -119,10 +119,12 @@ def model_laid(tree, layer):
 def check_example(test, text):
     """Check an example as the document prints it: what it returns, or the error behind the word raises."""
     space = {}
-    lines = text.strip().splitlines()
+    # What goes on behind three points belongs to the line before.
+    lines = text.replace("\n... ", "\r").strip().split("\n")
     for at, line in enumerate(lines):
         if not line.startswith(">>> "):
             continue
+        line = line.replace("\r", "\n")
         told = lines[at + 1] if at + 1 < len(lines) and not lines[at + 1].startswith(">>> ") else None
         if told is None:
             exec(line[4:], space)

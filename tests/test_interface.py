@@ -26,6 +26,11 @@ FUNCTIONS = {
                     "idle(recipe, *, limit=2000)"],
     "rebases": ["rebase(run, start)"],
     "merges": ["merged(base, one, other, *, limit=2000)"],
+    "stores": ["cost(stack, store, begin, end, *, price=1)", "cheapest(stack, store, *, price=1, most=8)",
+               "prices(stack, store, *, price=1, most=8)", "is_prices(stack, store, thing, *, price=1, most=8)"],
+    "shelves": ["reached(bases, layers)", "is_closed(bases, layers, thing)", "nearest(bases, layers, goal)"],
+    "notation": ["show_tree(tree)", "show_layer(layer)", "show_step(step)", "show_recipe(recipe)", "read_tree(text)",
+                 "read_layer(text)", "read_step(text)", "read_recipe(text)"],
 }
 
 CLASSES = {
@@ -63,6 +68,13 @@ CLASSES = {
     ("caches", "Cache"): [
         "__init__(self)", "__len__(self)", "__contains__(self, thing)", "fill(self, run)",
         "would(self, recipe, inputs, arguments)", "make(self, recipe, inputs, arguments)"],
+    ("stores", "Store"): [
+        "__init__(self, layers=())", "__eq__(self, other)", "__len__(self)", "__contains__(self, thing)", "layers(self)",
+        "more(self, layers)"],
+    ("books", "Book"): [
+        "__init__(self, recipe)", "__eq__(self, other)", "__len__(self)", "do(self, deed)", "back(self)", "again(self)",
+        "late(self, at, deed)", "drop(self, at)", "recipe(self)", "first(self)", "log(self)", "branch(self)",
+        "merged(self, other, *, limit=2000)", "built(self, inputs, arguments)", "trial(self)", "tried(self, deeds)"],
 }
 
 
