@@ -2,7 +2,7 @@
 
 from recipelayers.errors import NoText
 from recipelayers.forms import entry_form, step_form, turned
-from recipelayers.kinds import LETTERS, is_name
+from recipelayers.kinds import LETTERS
 
 MOST_NAMES = 20
 MOST_MADE = 20
@@ -128,11 +128,8 @@ def scan_form(scanner, kind, form):
 
 
 def scan_name(scanner):
-    """A name."""
-    name = scanner.letters()
-    if not is_name(name):
-        raise NoText()
-    return name
+    """What stands in place of a name; it may be empty or too long."""
+    return scanner.letters()
 
 
 def scan_path(scanner):

@@ -494,6 +494,13 @@ class TestEqualBooks(BookChecks, unittest.TestCase):
                 book.do(deed)
         self.assertEqual(four.recipe(), five.recipe())
         self.assertTruth(False, four == five)
+        # Equal logs behind unlike first recipes.
+        six, seven = book_of(LINK), book_of(LINK, LINK)
+        self.assertTruth(False, six == seven)
+        for book in [six, seven]:
+            book.do(("lose", 0))
+        self.assertEqual(six.log(), seven.log())
+        self.assertTruth(False, six == seven)
         for thing in [one.recipe(), one.log(), None, 1, "Book", [one], Cache(), object()]:
             self.assertTruth(False, one == thing)
         self.assertFalse(book_of() == [])
@@ -585,6 +592,12 @@ class TestMerged(BookChecks, unittest.TestCase):
         self.assertRefused(TooMany, "limit", 1, one, lambda: one.merged(other, limit=1))
         with self.assertRaises(TypeError):
             one.merged(other, 2000)
+        # The usual limit is 2000.
+        first = ("one", "base", [("copy", "src", (), ("x" + name,)) for name in "abcdefgh"])
+        second = ("two", "one", [("copy", "one", (), ("y" + name,)) for name in "abcdefgh"])
+        book = Book(Recipe([first, second, ("last", "two", [("copy", "two", (), ("z" + name,)) for name in "abc"])]))
+        self.assertFails(TooMany, "limit", 2000, book.merged, book.branch())
+        self.assertEqual(book.merged(book.branch(), limit=4000), ("merged", book.recipe()))
 
 
 class TestBuilt(BookChecks, unittest.TestCase):

@@ -229,6 +229,58 @@ class TestForm(unittest.TestCase):
                 if is_call or isinstance(part, (ast.Set, ast.SetComp)):
                     self.assertIn(part, allowed, file)
 
+    def test_what_the_library_gives_is_iterated_at_once(self):
+        for file, tree in trees():
+            iterated = [part.iter for part in ast.walk(tree) if isinstance(part, (ast.For, ast.comprehension))]
+            iterated += [argument for part in ast.walk(tree) if isinstance(part, ast.Call)
+                         and ast.unparse(part.func) in ("list", "tuple", "sorted", "enumerate", "sum", "any", "all")
+                         for argument in part.args[:1]]
+            for part in ast.walk(tree):
+                if isinstance(part, ast.Call) and called(part) in ("permutations", "combinations", "product", "zip", "enumerate",
+                                                                   "reversed", "items", "keys", "values"):
+                    self.assertIn(part, iterated, (file, part.lineno))
+
+    def test_tables_are_only_looked_up(self):
+        tables = {part.targets[0].id for _, tree in trees() for part in tree.body
+                  if isinstance(part, ast.Assign) and isinstance(part.value, (ast.Dict, ast.List))}
+        self.assertTrue(tables)
+        for file, tree in trees():
+            looked = [part.value for part in ast.walk(tree) if isinstance(part, ast.Subscript)]
+            looked += [part.value for part in ast.walk(tree) if isinstance(part, ast.Attribute) and part.attr == "get"]
+            looked += [side for part in ast.walk(tree) if isinstance(part, ast.Compare) for side in part.comparators]
+            for part in ast.walk(tree):
+                if isinstance(part, ast.Name) and part.id in tables and isinstance(part.ctx, ast.Load):
+                    self.assertIn(part, looked, (file, part.lineno))
+
+    def test_what_stands_in_exit(self):
+        found = [function for _, function in parts(ast.FunctionDef) if function.name == "__exit__"]
+        self.assertEqual(len(found), 1)
+        for part in found[0].body:
+            self.assertIsInstance(part, ast.Assign)
+            self.assertIsInstance(part.value, (ast.Attribute, ast.Name))
+
+    def test_variables_of_comprehensions_within_others(self):
+        kinds = (ast.ListComp, ast.SetComp, ast.DictComp)
+        for file, function in parts(ast.FunctionDef):
+            comprehensions = [part for part in ast.walk(function) if isinstance(part, kinds)]
+            within = [part for some in comprehensions for part in ast.walk(some)]
+            own = {part.id for part in ast.walk(function) if isinstance(part, ast.Name) and isinstance(part.ctx, ast.Store)
+                   and part not in within}
+            for outer in comprehensions:
+                further_out = own | {name for generator in outer.generators for name in targets(generator.target)}
+                for inner in [part for part in ast.walk(outer) if isinstance(part, kinds) and part != outer]:
+                    names = {name for generator in inner.generators for name in targets(generator.target)}
+                    self.assertEqual(names & further_out - {"_"}, set(), (file, function.name))
+
+    def test_names_that_are_not_used(self):
+        for file, tree in trees():
+            names = targets(tree) + [part.name for part in ast.walk(tree) if isinstance(part, (ast.FunctionDef, ast.ClassDef))]
+            names += [part.attr for part in ast.walk(tree) if isinstance(part, ast.Attribute)]
+            for name in names:
+                self.assertNotRegex(name, r"^(_wall|_pe_|_dcw_|_enum_|_cm_|_twin_re_|_lay_|_law_|_stub_|_sre|_WallAttr)", file)
+                self.assertNotRegex(name, r"^(_cold|_tuplegetter|_outside|_record|_written_out|_member_names)[0-9_]*$", file)
+                self.assertFalse(name.startswith("__") and name not in SPECIAL, file)
+
     def test_operators_change_nothing(self):
         functions = {}
         for _, part in parts(ast.FunctionDef):

@@ -354,6 +354,14 @@ class TestStale(StaleChecks, unittest.TestCase):
                                [(CONTENT, "src", C), (ARG, "u")], [(ALL, "src", ())], [(ALL, "src", B), (CONTENT, "src", A)]]:
                     self.assertGreater(len(self.check(recipe, told, {"u": text}, places)), 0)
 
+    def test_texts_of_steps_that_are_read_now(self):
+        # What is copied to b has to be unlike what is written there, which is read as long as nothing is copied.
+        for text in "0123":
+            steps = [("write", B, text, 4), ("copy", "src", A, B), ("run", "cc", (("path", B),), C), ("rights", B, 6)]
+            for inputs in [{}, {"src": Tree([(C, FILE)])}]:
+                self.assertEqual(self.check(last(*steps, start=None), inputs, {}, [(ALL, "src", A)]),
+                                 [("last", 1), ("last", 2), ("last", 3)])
+
     def test_many(self):
         maker = Maker(72)
         found = 0

@@ -270,6 +270,13 @@ class TestIsPrices(Checks, unittest.TestCase):
         self.check(True, self.right)
         self.check(True, [list(row) for row in self.right])
 
+    def test_the_usual_price_and_number_of_groups(self):
+        right = prices(self.stack, self.store)
+        self.assertTruth(True, is_prices(self.stack, self.store, right))
+        self.assertTruth(True, is_prices(self.stack, self.store, right, price=1, most=8))
+        self.assertTruth(False, is_prices(self.stack, self.store, right, most=7))
+        self.assertTruth(False, is_prices(self.stack, self.store, right, most=9))
+
     def test_other_prices_stores_and_numbers(self):
         for call in [lambda: is_prices(self.stack, self.store, self.right), lambda: is_prices(self.stack, self.store, self.right, most=1),
                      lambda: is_prices(self.stack, self.store, self.right, price=0, most=2),
