@@ -185,8 +185,8 @@ class TestIsClosed(Checks, unittest.TestCase):
                 others += [(base, (*order, more)) for more in range(-1, len(layers) + 1)]
                 for other in others:
                     ways = [*right[:at], other, *right[at + 1:]]
-                    if all(-1 < some[0] < len(bases) and len(set(some[1])) == len(some[1]) for some in [other]) and \
-                            all(-1 < index < len(layers) for index in other[1]):
+                    indexes = other[1]
+                    if other[0] in range(len(bases)) and len(set(indexes)) == len(indexes) and set(indexes) <= set(range(len(layers))):
                         self.check(bases, layers, ways)
                     else:
                         self.check_not(bases, layers, ways)
